@@ -1,0 +1,1 @@
+"""Veiledgates: programs run on covered bits by one who has no key."""
