@@ -1,5 +1,6 @@
 """What several test files share: odd values, sizes, and how errors are told."""
 
+from veiledgates.polys import Poly
 from veiledgates.sizes import Sizes
 
 TINY = Sizes(1, 4, 16, 2, 0)
@@ -33,3 +34,41 @@ def each_other_sizes():
         (Sizes(*first), Sizes(*(first[:at] + (other,) + first[at + 1:])))
         for at, other in enumerate((3, 16, 128, 4, 2))
     ]
+
+
+def samples(sizes):
+    """Some polynomials with sizes: the ends, and two that look drawn."""
+    top = sizes.modulus - 1
+    rows = [
+        [0] * sizes.ring,
+        [top] * sizes.ring,
+        [top // 2 + 1] * sizes.ring,
+        [1] + [0] * (sizes.ring - 1),
+        [top if k % 2 else top // 2 for k in range(sizes.ring)],
+        [(k + 3) ** 40 for k in range(sizes.ring)],
+        [(7 * k + 2) ** 37 for k in range(sizes.ring)],
+    ]
+    return [Poly(sizes, row) for row in rows]
+
+
+def slow_product(one, other):
+    """The product of two polynomials, term by term, with X to the power N as -1."""
+    ring = one.sizes.ring
+    sums = [0] * ring
+    for i, left in enumerate(one.numbers()):
+        for j, right in enumerate(other.numbers()):
+            sign = -1 if (i + j) // ring % 2 else 1
+            sums[(i + j) % ring] += sign * left * right
+    return [value % one.sizes.modulus for value in sums]
+
+
+def sum_of(one, other):
+    return one + other
+
+
+def difference_of(one, other):
+    return one - other
+
+
+def product_of(one, other):
+    return one * other

@@ -5,6 +5,8 @@ import pathlib
 import unittest
 
 from helpers import told
+from veiledgates.draws import Made
+from veiledgates.polys import Poly
 from veiledgates.residues import centered, digits, rounded, whole
 from veiledgates.sizes import Sizes
 
@@ -22,6 +24,19 @@ class Examples(unittest.TestCase):
         sizes = Sizes(1, 4, 16, 2, 0)
         found = [centered(200, sizes), digits(200, sizes), whole([-8, -3], sizes), rounded(200, sizes)]
         self.assertEqual(found, [-56, [-8, -3], 200, 6])
+
+    def test_polynomials(self):
+        sizes = Sizes(1, 4, 16, 2, 0)
+        poly = Poly(sizes, [1, 2, 0, 0])
+        found = [(poly * Poly(sizes, [0, 0, 0, 1])).numbers(), poly.turned(-1).numbers(), poly.turned(8) == poly,
+                 abs(-poly)]
+        self.assertEqual(found, [[254, 0, 0, 1], [2, 0, 0, 255], True, 2])
+
+    def test_draws(self):
+        sizes = Sizes(2, 8, 65536, 2, 1)
+        draws = Made(5)
+        found = [draws.residue(sizes), draws.noise(sizes), draws.state]
+        self.assertEqual(found, [937094784, 1, 2294577901441625132])
 
     def test_readme(self):
         path = pathlib.Path(__file__).resolve().parent.parent / "README.md"

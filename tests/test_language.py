@@ -54,7 +54,30 @@ def imports_of(path):
     return [(node.module.split(".")[1], item.name) for node in nodes for item in node.names]
 
 
+def names_in_classes():
+    """The sets of the names of methods, properties and static methods, and attributes, over all files."""
+    methods, special, attributes = set(), set(), set()
+    for path in files():
+        for node in ast.walk(ast.parse(path.read_text())):
+            if isinstance(node, ast.ClassDef):
+                for item in node.body:
+                    if isinstance(item, ast.FunctionDef):
+                        (special if item.decorator_list else methods).add(item.name)
+            if isinstance(node, ast.Attribute) and isinstance(node.ctx, ast.Store):
+                attributes.add(node.attr)
+    return methods, special, attributes
+
+
 class Language(unittest.TestCase):
+    def test_names_of_properties_and_static_methods_stand_alone(self):
+        methods, special, attributes = names_in_classes()
+        self.assertEqual(special & (methods | attributes), set())
+
+    def test_nothing_is_imported_for_nothing(self):
+        for path in files():
+            used = {node.id for node in ast.walk(ast.parse(path.read_text())) if isinstance(node, ast.Name)}
+            self.assertEqual([name for _, name in imports_of(path) if name not in used], [], path.name)
+
     def test_the_checks_find_broken_rules(self):
         for source, rule in BROKEN.items():
             self.assertIn(rule, [found for found, _ in faults(source)], source[:60])

@@ -102,6 +102,9 @@ class Values(unittest.TestCase):
         # 24 * 8 * W < 2 q here, which is W < q / 96.
         self.assertIs(Sizes(2, 8, 65536, 2, 17).roomy, True)
         self.assertIs(Sizes(2, 8, 65536, 2, 18).roomy, False)
+        # 24 * 8 * W < 4 q here, which is 1152 e < 65536.
+        self.assertIs(Sizes(1, 8, 65536, 2, 56).roomy, True)
+        self.assertIs(Sizes(1, 8, 65536, 2, 57).roomy, False)
 
     def test_properties_are_properties(self):
         for name in ("modulus", "eighth", "limit", "leading", "roomy"):
