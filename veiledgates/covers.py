@@ -2,7 +2,7 @@
 
 from veiledgates.checks import check_alike, check_numbers, is_any_number, is_bit
 from veiledgates.errors import InvalidNumber, InvalidText
-from veiledgates.texts import spaced, written_residue
+from veiledgates.texts import spaced, written_numbers
 
 
 class Cover:
@@ -21,8 +21,8 @@ class Cover:
         """Return the cover that has a text."""
         if not isinstance(text, str):
             raise InvalidText(0)
-        residues = [written_residue(word, sizes.modulus) for word in text.split(" ")]
-        if len(residues) != sizes.length + 1 or None in residues:
+        residues = written_numbers(text.split(" "), 0, sizes.modulus - 1)
+        if residues is None or len(residues) != sizes.length + 1:
             raise InvalidText(0)
         return Cover(sizes, residues[:-1], residues[-1])
 
