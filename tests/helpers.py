@@ -1,8 +1,15 @@
 """What several test files share: odd values, sizes, and how errors are told."""
 
+import itertools
+import random
+
 from veiledgates.covers import Cover
+from veiledgates.draws import Made
+from veiledgates.keys import Key
+from veiledgates.nets import Net
 from veiledgates.polys import Poly
 from veiledgates.sizes import Sizes
+from veiledgates.weighings import weighing_of
 
 TINY = Sizes(1, 4, 16, 2, 0)
 USUAL = Sizes(2, 8, 65536, 2, 1)
@@ -127,3 +134,53 @@ def bent_texts(text):
 
 
 NO_STRINGS = [value for value in NO_NUMBERS if not isinstance(value, str)] + [0, 1, GREAT, ["a"], ("a",)]
+
+
+def total_weighings(most, many):
+    """All total weighings with up to so many weights, none greater than most."""
+    weights = [w for w in range(-most, most + 1) if w]
+    found = []
+    for width in range(1, many + 1):
+        for row in itertools.product(weights, repeat=width):
+            if sum(map(abs, row)) <= 12:
+                found.extend(weighing_of(row, shift=shift) for shift in range(-8, 9))
+    return [weighing for weighing in found if weighing.is_total()]
+
+
+WEIGHINGS = total_weighings(3, 3) + [weighing_of([1, -1, 1, -1], shift=1), weighing_of([2, 2, -2, 2], shift=2),
+                                     weighing_of([3, 3, 3, 3], shift=-1), weighing_of([12], shift=1)]
+MODEST = [weighing for weighing in WEIGHINGS if weighing.is_modest()]
+
+
+def random_net(seed, *, inputs, size, outputs, choices=None):
+    """A net that hangs on a seed; about a third of its sources are constants or stand twice."""
+    chance = random.Random(seed)
+    steps = []
+    for at in range(size):
+        weighing = chance.choice(choices or WEIGHINGS)
+        wires = 2 + inputs + at
+        sources = [chance.randrange(wires) for _ in weighing.weights()]
+        if chance.random() < 0.2:
+            sources = [chance.choice(sources) for _ in sources]
+        if chance.random() < 0.2:
+            sources[0] = chance.randrange(2)
+        steps.append((weighing, tuple(sources)))
+    return Net(inputs, steps, [chance.randrange(2 + inputs + size) for _ in range(outputs)])
+
+
+def plain_values(net, bits):
+    """The plain values of all wires, by the words of the document."""
+    values = [0, 1] + list(bits)
+    for weighing, sources in net.steps():
+        level = weighing.shift
+        for weight, source in zip(weighing.weights(), sources):
+            level += weight if values[source] else -weight
+        values.append({1: 1, 2: 1, 3: 1, 5: 0, 6: 0, 7: 0}[level % 8])
+    return values
+
+
+def drawn(sizes, seed):
+    """A drawn key and its public tables."""
+    draws = Made(seed)
+    key = Key.drawn(sizes, draws=draws)
+    return key, key.public_tables(draws=draws)

@@ -6,9 +6,16 @@ import unittest
 
 from helpers import told
 from veiledgates.draws import Made
+from veiledgates.finding import best_weighing
+from veiledgates.keys import Key
+from veiledgates.nets import Net
 from veiledgates.polys import Poly
 from veiledgates.residues import centered, digits, rounded, whole
+from veiledgates.runner import Runner
 from veiledgates.sizes import Sizes
+from veiledgates.weighings import standard
+
+NET = "net 2\nweigh -1 1 2 1 3\nweigh 0 -1 4\noutputs 5 2\n"
 
 
 class Examples(unittest.TestCase):
@@ -37,6 +44,39 @@ class Examples(unittest.TestCase):
         draws = Made(5)
         found = [draws.residue(sizes), draws.noise(sizes), draws.state]
         self.assertEqual(found, [937094784, 1, 2294577901441625132])
+
+    def test_weighings(self):
+        more = standard("more")
+        found = [more.table(), more.level((1, 0, 0)), more.margin((1, 1, 0)), standard("odd").table()]
+        self.assertEqual(found, [(0, 0, 0, 1, 0, 1, 1, 1), 7, 1, (0, 1, 1, 0, 1, 0, 0, 1)])
+
+    def test_weighings_that_sizes_allow(self):
+        near = Sizes(2, 8, 65536, 2, 25)
+        far = Sizes(2, 8, 65536, 2, 26)
+        found = [standard("and").allowed(near), standard("and").allowed(far), standard("xor").allowed(far),
+                 standard("and").first_refused(far)]
+        self.assertEqual(found, [True, False, True, (0, 0)])
+
+    def test_best_weighings(self):
+        best = best_weighing((0, 0, 0, 1), most=1)
+        found = [best.weights(), best.shift, best_weighing((0, 0, 0, 1, 1, 0, 1, 0), most=3)]
+        self.assertEqual(found, [[-1, -1], -3, None])
+
+    def test_nets(self):
+        net = Net.read(NET)
+        found = [net.plain([1, 1]), net.plain_wires([0, 1]), list(net.lots()), net.size, net.wires]
+        self.assertEqual(found, [[0, 1], [0, 1, 0, 1, 0, 1], [[4], [5]], 2, 6])
+
+    def test_runners(self):
+        sizes = Sizes(2, 8, 65536, 2, 1)
+        draws = Made(11)
+        key = Key.drawn(sizes, draws=draws)
+        public = key.public_tables(draws=draws)
+        runner = Runner(Net.read(NET), public, [key.fresh(1, draws=draws), key.fresh(1, draws=draws)])
+        done = runner.run()
+        found = [done, key.opened(runner.cover(4)), key.opened(runner.cover(5)),
+                 key.noise_at(runner.cover(5), 7) <= sizes.limit, len(runner.touches())]
+        self.assertEqual(found, [[4, 5], 1, 0, True, 38])
 
     def test_readme(self):
         path = pathlib.Path(__file__).resolve().parent.parent / "README.md"

@@ -4,7 +4,8 @@ import itertools
 import unittest
 
 import slow
-from helpers import (GREATEST, MANY_PLACES, TINY, USUAL, each_other_sizes, row_of, rows_of, samples, some_cover, told)
+from helpers import (GREATEST, MANY_PLACES, TINY, USUAL, drawn, each_other_sizes, row_of, rows_of, samples, some_cover,
+                     told)
 from veiledgates.covers import Cover
 from veiledgates.draws import Listed, Made
 from veiledgates.keys import Key
@@ -16,12 +17,6 @@ from veiledgates.tables import Public
 EXACT = Sizes(3, 8, 16, 5, 0)
 SPREAD = Sizes(2, 4, 256, 3, 3)
 ALL_SIZES = [TINY, USUAL, MANY_PLACES, EXACT, SPREAD]
-
-
-def drawn(sizes, seed):
-    draws = Made(seed)
-    key = Key.drawn(sizes, draws=draws)
-    return key, key.public_tables(draws=draws)
 
 
 def plain_tables(public):

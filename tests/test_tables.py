@@ -3,7 +3,7 @@
 import unittest
 
 import slow
-from helpers import (GREAT, MANY_PLACES, NO_NUMBERS, NO_STRINGS, TINY, USUAL, bent_texts, each_other_sizes,
+from helpers import (GREAT, MANY_PLACES, NO_NUMBERS, NO_STRINGS, TINY, USUAL, bent_texts, drawn, each_other_sizes,
                      joined_lines, row_of, rows_of, some_cover, told)
 from veiledgates.covers import Cover
 from veiledgates.draws import Listed, Made
@@ -14,13 +14,6 @@ from veiledgates.tables import Public, Selector, Switch
 
 SPREAD = Sizes(2, 4, 16, 2, 3)
 ALL_SIZES = [TINY, USUAL, MANY_PLACES, SPREAD]
-
-
-def drawn(sizes, seed):
-    """A drawn key and its public tables."""
-    draws = Made(seed)
-    key = Key.drawn(sizes, draws=draws)
-    return key, key.public_tables(draws=draws)
 
 
 def switches(sizes, width, draws):

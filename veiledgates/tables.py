@@ -122,7 +122,7 @@ class Public:
         for at in range(self.switch.width):
             for place in places:
                 lines.append(self.switch.cover(at, place).text())
-        return "".join([line + "\n" for line in lines])
+        return "".join([f"{line}\n" for line in lines])
 
     def __eq__(self, other):
         return (

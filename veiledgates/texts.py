@@ -4,9 +4,9 @@
 MOST_FIGURES = 60
 
 
-def spaced(numbers):
-    """Return numbers as words with one space between."""
-    return " ".join([str(number) for number in numbers])
+def spaced(items):
+    """Return numbers and strings as words with one space between."""
+    return " ".join([str(item) for item in items])
 
 
 def with_commas(numbers):
