@@ -181,6 +181,10 @@ def call_faults(tree):
                 yield "L22 keyword", node.lineno
             if node.func.id == "pow" and len(node.args) != 3:
                 yield "L27 pow", node.lineno
+        for item in node.args:
+            if isinstance(item, ast.Starred) and not isinstance(item.value, (ast.Name, ast.Attribute, ast.List,
+                                                                             ast.Tuple, ast.Constant)):
+                yield "L7 star", node.lineno
         if isinstance(node.func, ast.Attribute):
             name = node.func.attr
             if name in BUILTIN_METHODS and name not in METHODS:

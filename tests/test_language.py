@@ -41,6 +41,7 @@ BROKEN = {
     "class A:\n    def __repr__(self):\n        x = 'a'\n        return x\n": "L28 assignment",
     "def f(xs=[]):\n    return xs\n": "L4 default",
     "x = '\\x41'\n": "L27 escape",
+    "def f(xs):\n    return f(*f(xs))\n": "L7 star",
 }
 
 

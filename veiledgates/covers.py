@@ -1,7 +1,7 @@
 """Covers: a mask of n residues and a body, which is one more."""
 
 from veiledgates.checks import check_alike, check_numbers, is_any_number, is_bit
-from veiledgates.errors import InvalidNumber, InvalidText
+from veiledgates.errors import BadCover, InvalidNumber, InvalidText
 from veiledgates.texts import spaced, written_numbers
 
 
@@ -82,3 +82,12 @@ class Cover:
 
     def __str__(self):
         return f"{self.text()}"
+
+
+def check_covers(value, many, sizes):
+    """Raise BadCover unless a value is a list or tuple of so many covers with sizes."""
+    if not isinstance(value, (list, tuple)) or len(value) != many:
+        raise BadCover(-1)
+    for at, item in enumerate(value):
+        if not isinstance(item, Cover) or item.sizes != sizes:
+            raise BadCover(at)

@@ -4,7 +4,7 @@ from veiledgates.checks import check_bits, is_number
 from veiledgates.errors import BadNet, BadOutput, BadWeighing, InvalidNumber, InvalidText, NoWire, TooMany
 from veiledgates.reading import split_text
 from veiledgates.texts import spaced, written_number, written_numbers
-from veiledgates.weighings import MOST_SHIFT, MOST_TOTAL, MOST_WEIGHTS, Weighing, weighing_of
+from veiledgates.weighings import MOST_SHIFT, MOST_TOTAL, Weighing, weighing_of
 
 MOST_INPUTS = 64
 
@@ -60,7 +60,7 @@ def _read_inputs(line):
 def _read_step(line, wire):
     """Return the step for a wire that a line tells, or None."""
     words = line.split(" ")
-    if words[0] != "weigh" or len(words) % 2 != 0 or len(words) > 2 + 2 * MOST_WEIGHTS:
+    if words[0] != "weigh" or len(words) % 2 != 0:
         return None
     shift = written_number(words[1], -MOST_SHIFT, MOST_SHIFT)
     weights = written_numbers(words[2::2], -MOST_TOTAL, MOST_TOTAL)

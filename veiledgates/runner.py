@@ -1,8 +1,8 @@
 """Runners, which do the weighings of a net on covers and have no key."""
 
 from veiledgates.checks import is_any_number
-from veiledgates.covers import Cover
-from veiledgates.errors import BadCover, InvalidNumber, InvalidText, NotAllowed, NotReady, NoWire
+from veiledgates.covers import Cover, check_covers
+from veiledgates.errors import InvalidNumber, InvalidText, NotAllowed, NotReady, NoWire
 from veiledgates.nets import CONSTANTS
 from veiledgates.orders import missing_source, planned, touches_for
 from veiledgates.reading import split_text
@@ -28,14 +28,6 @@ def cover_made(net, public, wire, covers):
     """Return the cover of a weighing, made from a dict of covers that has all of its sources."""
     sources = [covers[source] for source in net.sources(wire)]
     return refreshed(public, weighted_sum(net.weighing(wire), sources))
-
-
-def _check_covers(covers, many, sizes):
-    if not isinstance(covers, (list, tuple)) or len(covers) != many:
-        raise BadCover(-1)
-    for at, cover in enumerate(covers):
-        if not isinstance(cover, Cover) or cover.sizes != sizes:
-            raise BadCover(at)
 
 
 def _read_cover(sizes, text):
@@ -74,7 +66,7 @@ class Runner:
     """A net, public tables, and the covers of the wires that are done."""
 
     def __init__(self, net, public, covers):
-        _check_covers(covers, net.inputs, public.sizes)
+        check_covers(covers, net.inputs, public.sizes)
         check_allowed(net, public.sizes)
         self.sizes = public.sizes
         self.net = net

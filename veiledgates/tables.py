@@ -1,6 +1,6 @@
 """Public tables: selectors, and the switch that leads covers to a key."""
 
-from veiledgates.checks import check_alike, check_numbers, is_any_number, is_number
+from veiledgates.checks import check_alike, check_numbers, is_number
 from veiledgates.covers import Cover
 from veiledgates.errors import InvalidNumber, Unlike
 from veiledgates.polys import Poly
@@ -53,8 +53,7 @@ class Switch:
     def led(self, numbers, body):
         """Return the cover to which a row of numbers and a body are led."""
         check_numbers(numbers, self.width)
-        if not is_any_number(body):
-            raise InvalidNumber(body)
+        # A body that is no number is refused by the cover itself.
         found = Cover(self.sizes, [0] * self.sizes.length, body)
         row = [digit for number in numbers for digit in digits(number, self.sizes)]
         for digit, cover in zip(row, self._covers):

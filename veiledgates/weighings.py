@@ -1,8 +1,8 @@
 """Weighings: bits weighed by numbers, in plain and on covers."""
 
 from veiledgates.checks import all_rows, check_bits, is_any_number, is_number
-from veiledgates.covers import Cover
-from veiledgates.errors import BadCover, BadWeighing, InvalidNumber, NoName, NotAllowed, TooMany
+from veiledgates.covers import Cover, check_covers
+from veiledgates.errors import BadWeighing, InvalidNumber, NoName, NotAllowed, TooMany
 from veiledgates.refreshing import refreshed
 from veiledgates.texts import with_commas
 
@@ -140,39 +140,28 @@ def standard(word):
     return Weighing(*weights, shift=shift)
 
 
-def _check_covers(weighing, covers):
-    if not isinstance(covers, (list, tuple)) or len(covers) != len(weighing.weights()):
-        raise BadCover(-1)
-
-
-def _check_sizes(covers, sizes):
-    for at, cover in enumerate(covers):
-        if not isinstance(cover, Cover) or cover.sizes != sizes:
-            raise BadCover(at)
-
-
-def _summed(weighing, covers):
-    sizes = covers[0].sizes
-    found = Cover(sizes, [0] * sizes.length, 0)
-    for weight, cover in zip(weighing.weights(), covers):
-        found = found + cover * weight
-    return found.shifted(weighing.shift)
+def _first_sizes(covers):
+    """Return the sizes of the first item of any value, or None if this is no cover."""
+    if isinstance(covers, (list, tuple)) and covers and isinstance(covers[0], Cover):
+        return covers[0].sizes
+    return None
 
 
 def weighted_sum(weighing, covers):
     """Return the cover that is refreshed when a weighing is done on covers."""
-    _check_covers(weighing, covers)
-    if not isinstance(covers[0], Cover):
-        raise BadCover(0)
-    _check_sizes(covers, covers[0].sizes)
-    return _summed(weighing, covers)
+    weights = weighing.weights()
+    sizes = _first_sizes(covers)
+    check_covers(covers, len(weights), sizes)
+    found = Cover(sizes, [0] * sizes.length, 0)
+    for weight, cover in zip(weights, covers):
+        found = found + cover * weight
+    return found.shifted(weighing.shift)
 
 
 def weighed(public, weighing, covers):
     """Return the cover of a weighing that is done on covers."""
-    _check_covers(weighing, covers)
-    _check_sizes(covers, public.sizes)
+    check_covers(covers, len(weighing.weights()), public.sizes)
     row = weighing.first_refused(public.sizes)
     if row is not None:
         raise NotAllowed(None, row)
-    return refreshed(public, _summed(weighing, covers))
+    return refreshed(public, weighted_sum(weighing, covers))
