@@ -184,3 +184,52 @@ def drawn(sizes, seed):
     draws = Made(seed)
     key = Key.drawn(sizes, draws=draws)
     return key, key.public_tables(draws=draws)
+
+
+def random_expression(chance, depth):
+    """The tokens of an expression over the words a and b and the rows r and s."""
+    way = chance.random()
+    if depth <= 0 or way < 0.3:
+        return [chance.choice(["a", "b", "a", "b", "0", "1"])]
+    if way < 0.55:
+        sign = chance.choice(["=", "<", "|", "^", "&", "+", "-", "+", "-"])
+        return random_expression(chance, depth - 1) + [sign] + random_expression(chance, depth - 1)
+    if way < 0.65:
+        return random_expression(chance, depth - 1) + [chance.choice(["<<", ">>"]), str(chance.randrange(10))]
+    if way < 0.75:
+        return [chance.choice("~-")] + random_expression(chance, depth - 1)
+    if way < 0.83:
+        return ["("] + random_expression(chance, depth - 1) + [")"]
+    if way < 0.92:
+        return [chance.choice("rs"), "["] + random_expression(chance, depth - 1) + ["]"]
+    parts = [random_expression(chance, depth - 1) for _ in range(3)]
+    return ["if", "("] + parts[0] + [","] + parts[1] + [","] + parts[2] + [")"]
+
+
+def random_lines(chance, many):
+    """Some lines let, set, out, times and end, all as lists of tokens."""
+    found, depth = [], 0
+    for _ in range(many):
+        way = chance.random()
+        if way < 0.4:
+            found.append(["let", chance.choice("ab"), "be"] + random_expression(chance, 2))
+        elif way < 0.6:
+            index = random_expression(chance, 1)
+            found.append(["set", chance.choice("rs"), "["] + index + ["]", "be"] + random_expression(chance, 2))
+        elif way < 0.8:
+            found.append(["out"] + random_expression(chance, 2))
+        elif way < 0.9 and depth < 2:
+            found.append(["times", str(chance.randrange(1, 4))])
+            depth += 1
+        elif depth:
+            found.append(["end"])
+            depth -= 1
+    return found + [["end"]] * depth
+
+
+def random_program(seed, *, width, many=6):
+    """The text of a program over two input words and two rows."""
+    chance = random.Random(seed)
+    head = [["word", str(width)], ["in", "a"], ["row", "r", str(chance.randrange(1, 9))], ["in", "b"],
+            ["row", "s", str(chance.randrange(1, 9))]]
+    return joined_lines(" ".join(row) for row in head + random_lines(chance, many) if len(row) <= 30)

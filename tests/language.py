@@ -172,6 +172,18 @@ def node_faults(tree):
             yield "L21 annotation", node.lineno
 
 
+def is_plainly_ordered(node):
+    """Whether what is sorted is plainly numbers or strings, as a class with an order asks for."""
+    if isinstance(node, ast.ListComp):
+        items = [node.elt]
+    elif isinstance(node, (ast.List, ast.Tuple)):
+        items = node.elts
+    else:
+        return False
+    return all(isinstance(item, ast.Constant) or isinstance(item, ast.Call) and isinstance(item.func, ast.Name)
+               and item.func.id in ("int", "len", "ord", "str", "repr") for item in items)
+
+
 def call_faults(tree):
     for node in ast.walk(tree):
         if not isinstance(node, ast.Call):
@@ -179,6 +191,8 @@ def call_faults(tree):
         if isinstance(node.func, ast.Name) and node.func.id in PYTHON_NAMES:
             if {word.arg for word in node.keywords} - KEYWORDS.get(node.func.id, set()):
                 yield "L22 keyword", node.lineno
+            if node.func.id in ("sorted", "min", "max") and not is_plainly_ordered(node.args[0]):
+                yield "L5 order", node.lineno
             if node.func.id == "pow" and len(node.args) != 3:
                 yield "L27 pow", node.lineno
         for item in node.args:

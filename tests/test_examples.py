@@ -1,15 +1,18 @@
-"""The examples of the document, as far as their modules have landed, and those of README.md."""
+"""The examples of the document, and those of README.md."""
 
 import doctest
 import pathlib
 import unittest
 
 from helpers import told
+from veiledgates.desk import Desk
 from veiledgates.draws import Made
 from veiledgates.finding import best_weighing
 from veiledgates.keys import Key
+from veiledgates.machine import plain_step
 from veiledgates.nets import Net
 from veiledgates.polys import Poly
+from veiledgates.programs import Program
 from veiledgates.residues import centered, digits, rounded, whole
 from veiledgates.runner import Runner
 from veiledgates.sizes import Sizes
@@ -77,6 +80,26 @@ class Examples(unittest.TestCase):
         found = [done, key.opened(runner.cover(4)), key.opened(runner.cover(5)),
                  key.noise_at(runner.cover(5), 7) <= sizes.limit, len(runner.touches())]
         self.assertEqual(found, [[4, 5], 1, 0, True, 38])
+
+    def test_programs(self):
+        program = Program("word 3\nin a\nrow r 2\nset r[1] be a+a\ntimes 2\nlet a be if(a < r[1], a + 1, r[0])\nend\nout a\n"
+                          "out r[1] >> 1\n")
+        found = [program.meaning([3]), program.meaning([6]), program.work, program.text().split("\n")[3]]
+        self.assertEqual(found, [[5, 3], [1, 2], 6, "set r [ 1 ] be a + a"])
+
+    def test_bad_lines(self):
+        self.assertEqual(told(Program, "word 3\nin a\nlet b be a + c\n"), ("BadLine", {"line": 2, "why": "unknown"}))
+
+    def test_machines(self):
+        found = [plain_step(3, 0, 2, [1, 5]), plain_step(3, 1, 0, [2, 6])]
+        self.assertEqual(found, [(1, 5, [1, 5]), (0, 0, [2, 6])])
+
+    def test_desks(self):
+        desk = Desk(Sizes(2, 8, 65536, 2, 1))
+        done = desk.do("owner ann 7", "owner bob 8", "program inc word 2;in a;out a + 1;", "job one ann inc 2", "work one 999999999",
+                       "hand two one bob inc", "work two 999999999")
+        found = [desk("result one"), desk("result two"), desk("plain two"), desk("left two"), desk("jobs"), desk("result six")]
+        self.assertEqual([done, found], [["done"] * 7, ["3", "0", "0", "0", "one two", "error NoName"]])
 
     def test_readme(self):
         path = pathlib.Path(__file__).resolve().parent.parent / "README.md"

@@ -42,6 +42,7 @@ BROKEN = {
     "def f(xs=[]):\n    return xs\n": "L4 default",
     "x = '\\x41'\n": "L27 escape",
     "def f(xs):\n    return f(*f(xs))\n": "L7 star",
+    "def f(xs):\n    return sorted(xs)\n": "L5 order",
 }
 
 
@@ -73,6 +74,16 @@ class Language(unittest.TestCase):
     def test_names_of_properties_and_static_methods_stand_alone(self):
         methods, special, attributes = names_in_classes()
         self.assertEqual(special & (methods | attributes), set())
+
+    def test_generators_have_names_of_their_own(self):
+        generators, others = [], []
+        for path in files():
+            for node in ast.walk(ast.parse(path.read_text())):
+                if isinstance(node, ast.FunctionDef):
+                    yields = [part for part in ast.walk(node) if isinstance(part, (ast.Yield, ast.YieldFrom))]
+                    (generators if yields else others).append(node.name)
+        self.assertEqual(sorted(generators), ["lots", "trace"])
+        self.assertEqual(set(generators) & set(others), set())
 
     def test_nothing_is_imported_for_nothing(self):
         for path in files():

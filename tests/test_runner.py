@@ -282,6 +282,19 @@ class Trying(unittest.TestCase):
         self.assertEqual(told(runner.cover, 5), ("NotReady", {"wire": 5}))
 
 
+class TakingBack(unittest.TestCase):
+    def test_the_last_weighings_are_taken_back(self):
+        runner, states = a_runner(), []
+        for order in ([6], [9, 5], [7, 10], [8]):
+            states.append((state(runner), len(order)))
+            runner.run(order=order)
+        for before, many in reversed(states):
+            runner.take_back(0)
+            runner.take_back(many)
+            self.assertEqual(state(runner), before)
+        self.assertEqual(runner.run(), [5, 6, 7, 8, 9, 10])
+
+
 class Telling(unittest.TestCase):
     def test_covers_of_wires(self):
         covers = fresh_covers(KEY, (1, 0, 1))

@@ -115,6 +115,12 @@ class Operators(unittest.TestCase):
             for call in list(OPERATORS.values()) + ORDERS:
                 self.assertEqual(told(call, Word(1, one), Word(1, other)), ("Unlike", {}))
 
+    def test_what_is_no_word(self):
+        for other in NO_NUMBERS + [0, 1, GREAT]:
+            for call in list(OPERATORS.values()) + ORDERS:
+                self.assertEqual(told(call, Word(1, 3), other)[0], "TypeError")
+                self.assertEqual(told(call, other, Word(1, 3))[0], "TypeError")
+
     def test_words_stay(self):
         one, other = Word(5, 3), Word(6, 3)
         for call in list(OPERATORS.values()) + ORDERS:

@@ -129,6 +129,12 @@ class Runner:
             self._make(wire)
         return wires
 
+    def take_back(self, many):
+        """Take so many weighings back, the last ones that this runner did."""
+        for _ in range(many):
+            wire = self._order.pop()
+            del self._covers[wire]
+
     def tried(self, order):
         """Return the dict from the wires of an order, or from all of weighings, to the covers that run would give."""
         items = self._items(order)

@@ -112,7 +112,7 @@ class Shortener:
         return Net(self._inputs, self._steps, outputs)
 
 
-def _trimmed(net):
+def trimmed(net):
     """Return a net without the weighings that are not needed."""
     wires = {wire: wire for wire in range(net.first_wire())}
     steps = []
@@ -128,4 +128,4 @@ def shortened(net):
     for weighing, sources in net.steps():
         shortener.take(weighing, sources)
     outputs = [shortener.output(wire) for wire in net.outputs()]
-    return _trimmed(shortener.made(outputs))
+    return trimmed(shortener.made(outputs))
