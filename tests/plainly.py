@@ -11,6 +11,7 @@ class Wrong(Exception):
 
 
 def tokens_of(line):
+    """The tokens of a line, by a pattern; None if the line has anything else."""
     if re.search("[^a-z0-9<>+&|^~=()\\[\\], -]", line) or re.search("[a-z]{7}|[0-9]{4}", line):
         return None
     if re.search("(?<![0-9])0[0-9]", line) or ">" in line.replace(">>", ""):
